@@ -1,0 +1,1 @@
+"""Compasswork: formulas with square roots, drawn with straightedge and compass."""
