@@ -22,23 +22,23 @@ class Number:
         if not isinstance(other, Number):
             return NotImplemented
         tower, one, second = _both(self, other)
-        return _made(tower, element_sum(one, second))
+        return number_in(tower, element_sum(one, second))
 
     def __sub__(self, other):
         if not isinstance(other, Number):
             return NotImplemented
         tower, one, second = _both(self, other)
-        return _made(tower, element_difference(one, second))
+        return number_in(tower, element_difference(one, second))
 
     def __mul__(self, other):
         if not isinstance(other, Number):
             return NotImplemented
         tower, one, second = _both(self, other)
-        return _made(tower, element_product(tower, one, second))
+        return number_in(tower, element_product(tower, one, second))
 
     def __neg__(self):
         vector, scale = self.element
-        return _made(self.tower, (times(vector, -1), scale))
+        return number_in(self.tower, (times(vector, -1), scale))
 
     def __eq__(self, other):
         return isinstance(other, Number) and _order(self, other) == 0
@@ -52,7 +52,7 @@ class Number:
         if other.sign() == 0:
             raise ZeroDivisor()
         tower, one, second = _both(self, other)
-        return _made(tower, element_quotient(tower, one, second))
+        return number_in(tower, element_quotient(tower, one, second))
 
     def root(self):
         """The number from 0 on whose square is the number."""
@@ -64,7 +64,7 @@ class Number:
             tower, square = least_field(tower, square)
         if found is None:
             tower, found = adjoined(tower, square)
-        return _made(tower, found)
+        return number_in(tower, found)
 
     def sign(self):
         """-1, 0 or 1."""
@@ -94,7 +94,8 @@ class Number:
         return vector[0], scale
 
 
-def _made(tower, element):
+def number_in(tower, element):
+    """The number that the element is."""
     small, inside = trimmed(tower, element)
     number = Number(0)
     number.tower = small

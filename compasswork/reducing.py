@@ -147,3 +147,28 @@ def _rank(tower):
         for n in generator:
             digits = digits + n.bit_length()
     return len(tower), -digits
+
+
+def all_together(pairs):
+    """Pairs of tower and element in one tower: the tower, and the elements."""
+    found = _all_in_one_tower(pairs, MOST_GENERATORS)
+    if found is None:
+        # The towers may have more than the numbers need.
+        small = [least_field(tower, element) for tower, element in pairs]
+        found = _all_in_one_tower(small, sum([len(tower) for tower, _ in small]))
+    return found
+
+
+def _all_in_one_tower(pairs, most):
+    whole = ()
+    for tower, _ in pairs:
+        if _rank(whole) < _rank(tower):
+            whole = tower
+    images = {}
+    for tower, _ in pairs:
+        if tower not in images:
+            found = joined(whole, tower, most)
+            if found is None:
+                return None
+            whole, images[tower] = found
+    return whole, [image_of_element(whole, images[tower], element) for tower, element in pairs]
