@@ -59,44 +59,53 @@ def write_formula(formula):
 def value(formula):
     """The value of the formula, as a number."""
     field = Field()
-    return field.number(element_of(field, formula))
+    told = worked_out(field, formula)
+    return field.number(told[-1][1])
 
 
-def element_of(field, formula):
-    """The value of the formula, as an element of the field."""
+def worked_out(field, formula):
+    """Each formula in the formula, in the order of the work, as (word, element, elements of its parts)."""
+    told = []
     found = []
-    waiting = [(formula, False)]
-    while waiting:
-        part, inside_known = waiting.pop()
+    for part in _inside_first(formula):
         if part[0] == "number":
-            found.append(whole_element(part[1]))
-        elif inside_known:
-            last = found.pop()
-            if PARTS[part[0]] == 1:
-                found.append(_of_one(field, part[0], last))
-            else:
-                found.append(_of_two(field, part[0], found.pop(), last))
+            parts = []
+            whole = whole_element(part[1])
         else:
-            waiting.append((part, True))
-            waiting.extend([(inner, False) for inner in part[:0:-1]])
-    return found[0]
+            parts = [found.pop() for _ in part[1:]][::-1]
+            whole = _combined(field, part[0], parts)
+        found.append(whole)
+        told.append((part[0], whole, parts))
+    return told
 
 
-def _of_one(field, word, one):
-    if word == "neg":
-        return field.negative(one)
-    if field.sign(one) < 0:
-        raise NegativeRoot()
-    return field.root(one)
+def _inside_first(formula):
+    """The formulas in the formula, in the order in which they are worked out; itself last."""
+    falling = []
+    waiting = [formula]
+    while waiting:
+        part = waiting.pop()
+        falling.append(part)
+        if part[0] != "number":
+            waiting.extend(part[1:])
+    return falling[::-1]
 
 
-def _of_two(field, word, one, other):
+def _combined(field, word, parts):
+    """The element of a formula whose parts have these elements."""
+    last = parts[-1]
     if word == "add":
-        return field.plus(one, other)
+        return field.plus(parts[0], last)
     if word == "sub":
-        return field.minus(one, other)
+        return field.minus(parts[0], last)
     if word == "mul":
-        return field.product(one, other)
-    if field.sign(other) == 0:
-        raise ZeroDivisor()
-    return field.quotient(one, other)
+        return field.product(parts[0], last)
+    if word == "neg":
+        return field.negative(last)
+    if word == "div":
+        if field.sign(last) == 0:
+            raise ZeroDivisor()
+        return field.quotient(parts[0], last)
+    if field.sign(last) < 0:
+        raise NegativeRoot()
+    return field.root(last)

@@ -40,7 +40,7 @@ def _remainder(one, other):
     return rest
 
 
-def _quotient(one, other):
+def quotient(one, other):
     """The quotient of a division that leaves no rest, by a polynomial whose integers have no common divisor."""
     rest = one
     found = []
@@ -61,10 +61,14 @@ def divisor(one, other):
     return primitive(one)
 
 
+def with_single_roots(polynomial):
+    """The polynomial with the same roots, each of them once."""
+    return quotient(polynomial, divisor(polynomial, _derivative(polynomial)))
+
+
 def _chain(polynomial):
     """The chain of Sturm of the polynomial with the same roots, each of them once."""
-    slope = _derivative(polynomial)
-    single = _quotient(polynomial, divisor(polynomial, slope))
+    single = with_single_roots(polynomial)
     found = [single]
     following = _derivative(single)
     while following:
@@ -109,6 +113,14 @@ def _changes_below_all(chain):
     return _changes([polynomial[-1] * (1 - 2 * ((len(polynomial) - 1) % 2)) for polynomial in chain])
 
 
+def _count_below(chain, n, d):
+    # A chain of Sturm counts a root at n / d itself too.
+    count = _changes_below_all(chain) - _changes_at(chain, n, d)
+    if _value(chain[0], n, d) == 0:
+        return count - 1
+    return count
+
+
 def root_count(polynomial):
     """How many different real roots the polynomial has."""
     chain = _chain(polynomial)
@@ -117,12 +129,28 @@ def root_count(polynomial):
 
 def roots_below(polynomial, n, d):
     """How many different real roots are below n / d, for d from 1 on."""
+    return _count_below(_chain(polynomial), n, d)
+
+
+def root_span(polynomial, place):
+    """Integers (low, high, d): from low / d on and below high / d is no real root but the one with that place.
+
+    None if no real root has that place.
+    """
     chain = _chain(polynomial)
-    # A chain of Sturm counts a root at n / d itself too.
-    count = _changes_below_all(chain) - _changes_at(chain, n, d)
-    if _value(polynomial, n, d) == 0:
-        return count - 1
-    return count
+    if not 0 <= place < root_count(polynomial):
+        return None
+    # All roots are nearer to 0 than this.
+    high = 1 + max([abs(n) for n in polynomial])
+    low, d = -high, 1
+    while _count_below(chain, low, d) < place or _count_below(chain, high, d) > place + 1:
+        low, high, d = 2 * low, 2 * high, 2 * d
+        middle = (low + high) // 2
+        if _count_below(chain, middle, d) > place:
+            high = middle
+        else:
+            low = middle
+    return low, high, d
 
 
 def rational_roots(polynomial):

@@ -110,3 +110,12 @@ def _meets_with_circle(field, line, circle):
     if field.sign(right) < 0 or right == ZERO and field.sign(up) < 0:
         right, up = field.negative(right), field.negative(up)
     return [(field.minus(x, right), field.minus(y, up)), (field.plus(x, right), field.plus(y, up))]
+
+
+def known_by(field, thing):
+    """What a point or a figure is known by: the same for the same things alone, while the field grows too."""
+    if thing[0] != "line":
+        return thing
+    _, a, b, c = thing
+    share = field.inverted(b if a == ZERO else a)
+    return "line", field.product(a, share), field.product(b, share), field.product(c, share)

@@ -1,6 +1,8 @@
 import random
 import unittest
 
+from helpers import add_triangle, root_of_roots, some_drawing, turned_step
+
 from compasswork import drawings
 from compasswork.drawings import check, difference, draw, read_drawing, write_drawing
 from compasswork.errors import BadStep, BadText, NotDrawn
@@ -400,62 +402,6 @@ def some_step(chance):
     word = chance.choice(("point", "line", "circle", "meet"))
     many = 3 if word in ("circle", "meet") else 2
     return (word, *[chance.choice((0, 1, chance.randint(-10 ** 30 + 1, 10 ** 30 - 1))) for _ in range(many)])
-
-
-def turned_step(step):
-    """A step that gives the same thing."""
-    if step[0] == "line":
-        return "line", step[2], step[1]
-    if step[0] == "circle":
-        return "circle", step[1], step[3], step[2]
-    if step[0] == "meet":
-        return "meet", step[2], step[1], step[3]
-    return step
-
-
-def root_of_roots(many):
-    """A drawing of 3 with as many roots around it, and the index of its point."""
-    drawing = [("point", 0, 0), ("point", 1, 0), ("point", 0, 1), ("line", 0, 1), ("line", 0, 2), ("point", -1, 0),
-               ("point", 3, 0)]
-    last = 6
-    for _ in range(many):
-        last = add_root(drawing, last)
-    return tuple(drawing), last
-
-
-def add_root(drawing, last):
-    """Draws the point (root of x, 0) for a point (x, 0), and returns its index.
-
-    The y axis meets the circle over the line from (-1, 0) to (x, 0) there, in the height of the root.
-    """
-    base = len(drawing)
-    drawing.extend([("circle", 5, 5, last), ("circle", last, 5, last), ("meet", base, base + 1, 0),
-                    ("meet", base, base + 1, 1), ("line", base + 2, base + 3), ("meet", base + 4, 3, 0),
-                    ("circle", base + 5, base + 5, 5), ("meet", base + 6, 4, 1), ("circle", 0, 0, base + 7),
-                    ("meet", base + 8, 3, 1)])
-    return base + 9
-
-
-def some_drawing(chance, many):
-    """A drawing in the field of the root of 3, that can be drawn."""
-    drawing = [("point", 0, 0), ("point", 1, 0), ("point", 0, 1), ("point", 1, 1)]
-    corners = [0, 1, 2, 3]
-    while len(drawing) < many:
-        if chance.random() < 0.3:
-            corners = corners[-5:] + [len(drawing)]
-            drawing.append(("point", len(drawing), chance.randint(-9, 9)))
-        i, j = chance.sample(corners, 2)
-        add_triangle(drawing, i, j, chance.randint(0, 1))
-    return tuple(drawing[:many])
-
-
-def add_triangle(drawing, i, j, w):
-    """Draws an equilateral triangle, the middle of its side, and a point of this side that is as high from there."""
-    base = len(drawing)
-    drawing.extend([("circle", i, i, j), ("circle", j, j, i), ("meet", base, base + 1, 0),
-                    ("meet", base + 1, base, 1), ("line", i, j), ("line", base + 2, base + 3),
-                    ("meet", base + 4, base + 5, 0), ("circle", base + 6, base + 2, base + 6),
-                    ("meet", base + 7, base + 4, w)])
 
 
 if __name__ == "__main__":

@@ -274,10 +274,10 @@ class Values(unittest.TestCase):
         text = "mul add add root 2 root 3 add root 5 root 7 sub add root 2 root 3 add root 5 root 7"
         self.assertEqual(value(read_formula(text)), Number(-7) + Number(24).root() - Number(140).root())
         # Roots that all lie in the field of the first four.
-        text = "add " * 11 + "root 2 root 3 root 5 root 7 root 6 root 10 root 14 root 15 root 21 root 35 root 30 root 210"
-        whole = value(read_formula(text))
+        many = (2, 3, 5, 7, 6, 10, 14, 15, 21, 35, 30, 210)
+        whole = value(read_formula("add " * 11 + " ".join([f"root {n}" for n in many])))
         total = Number(0)
-        for n in (2, 3, 5, 7, 6, 10, 14, 15, 21, 35, 30, 210):
+        for n in many:
             total = total + Number(n).root()
         self.assertEqual(whole, total)
         self.assertEqual(whole.degree(), 16)

@@ -3,24 +3,11 @@ import unittest
 from fractions import Fraction
 from math import gcd, isqrt
 
-from compasswork.polynomials import divisor, rational_roots, root_count, roots_below
+from helpers import product, with_roots
+
+from compasswork.polynomials import divisor, rational_roots, root_count, root_span, roots_below
 
 BIG = 10 ** 99 + 289
-
-
-def product(*polynomials):
-    found = (1,)
-    for one in polynomials:
-        terms = [0] * (len(found) + len(one) - 1)
-        for i, m in enumerate(found):
-            for j, n in enumerate(one):
-                terms[i + j] += m * n
-        found = tuple(terms)
-    return found
-
-
-def with_roots(*roots):
-    return product(*[(-Fraction(x).numerator, Fraction(x).denominator) for x in roots])
 
 
 class RootCount(unittest.TestCase):
@@ -189,6 +176,43 @@ class Divisor(unittest.TestCase):
         self.assertEqual(divisor(one, other), tuple(n // content for n in common))
         self.assertEqual(divisor((BIG,) * 9, (BIG + 1,) * 9), (1,) * 9)
         self.assertEqual(divisor((BIG,) * 9, (BIG + 1,) * 8), (1,))
+
+
+class RootSpan(unittest.TestCase):
+    def spans(self, polynomial):
+        """That the span of each real root has this root alone; returns the spans."""
+        count = root_count(polynomial)
+        found = [root_span(polynomial, place) for place in range(count)]
+        for place, (low, high, d) in enumerate(found):
+            self.assertEqual(roots_below(polynomial, low, d), place)
+            self.assertEqual(roots_below(polynomial, high, d), place + 1)
+        for place in (-1, -count, -count - 1, count, count + 1, BIG):
+            if not 0 <= place < count:
+                self.assertIsNone(root_span(polynomial, place))
+        return found
+
+    def test_ordinary(self):
+        for polynomial in ((3, 2), (0, 1), (-2, 0, 1), (2, 0, -1), (1, -3, 0, 1), (1, 0, -10, 0, 1), (-1, 0, 4),
+                           (0, 0, 0, 0, 5), (-6, 2, 3, -1), (24, -50, 35, -10, 1)):
+            self.assertEqual(len(self.spans(polynomial)), root_count(polynomial))
+
+    def test_none(self):
+        for polynomial in ((5,), (1, 0, 1), (1, 0, 2, 0, 1)):
+            self.assertEqual(self.spans(polynomial), [])
+
+    def test_roots_that_stand_several_times_count_once(self):
+        self.assertEqual(len(self.spans(with_roots(1, 1, 2, 2, 2, -3, -3, Fraction(1, 2)))), 4)
+
+    def test_close_to_each_other_and_far_away(self):
+        for m in (10, 10 ** 20, 10 ** 49):
+            self.assertEqual(len(self.spans((-2, 4 * m, -2 * m * m, 0, 0, 0, 0, 0, 1))), 4)
+        self.assertEqual(len(self.spans((-BIG, 1))), 1)
+        self.assertEqual(len(self.spans((BIG, BIG, BIG, 1))), 1)
+
+    def test_rational_roots_at_the_ends(self):
+        # Halves of whole spans, down to a root itself.
+        for n in range(-20, 21):
+            self.spans(with_roots(Fraction(n, 8), Fraction(n + 1, 8), 3))
 
 
 class KindsOfValues(unittest.TestCase):
