@@ -49,5 +49,6 @@ def _named(step):
 
 def _renamed(step, first, places):
     """The step with other indexes."""
-    named = _named(step)
-    return step[0], *[places[first[k]] for k in named], *step[1 + len(named):]
+    named = [places[first[k]] for k in _named(step)]
+    rest = step[1 + len(named):]
+    return step[0], *named, *rest
